@@ -1,0 +1,1 @@
+"""Rootwebs: roots of webs."""

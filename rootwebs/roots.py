@@ -84,6 +84,7 @@ def root_choices(web, begun):
 
 
 def chosen_ties(ties, choice):
+    """The rising tuple of the ties that are in."""
     return tuple([tie for at, tie in enumerate(ties) if (choice >> at) & 1])
 
 

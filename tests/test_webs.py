@@ -236,8 +236,9 @@ class Renamed(unittest.TestCase):
                 self.assertTrue(same_kind(renamed(web, names), (web[0], tuple(ties))))
 
     def test_what_is_no_renaming(self):
-        wrong = [(), (0, 1), (0, 1, 2, 3), (0, 1, 1), (0, 1, 3), (-1, 0, 1), (0, 1, None), (False, True, 2), (0, True, 2),
-                 [0, 1, 2], {0: 0, 1: 1, 2: 2}, "012", ((0, 1, 2),), (0, 1, (2,)), (0, 1, [2]), (0, 1, {}), 0, (0, 0, 0)]
+        wrong = [(), (0, 1), (0, 1, 2, 3), (0, 1, 2, 0), (0, 1, 1), (0, 1, 3), (-1, 0, 1), (0, 1, None), (0, True, 2),
+                 (False, True, 2), [0, 1, 2], {0: 0, 1: 1, 2: 2}, "012", ((0, 1, 2),), (0, 1, (2,)), (0, 1, [2]),
+                 (0, 1, {}), 0, (0, 0, 0)]
         for thing in NO_THINGS + wrong:
             with self.assertRaises(NoPlace, msg=repr(thing)):
                 renamed((3, ((0, 1),)), thing)

@@ -24,3 +24,13 @@ def is_places(many, thing):
 def is_rising(things):
     """Whether each of these, which can be compared, is greater than the one ahead."""
     return all([things[at - 1] < things[at] for at in range(1, len(things))])
+
+
+def is_rising_places(many, thing):
+    """Whether it is a rising tuple of one place or more."""
+    return is_places(many, thing) and len(thing) > 0 and is_rising(thing)
+
+
+def is_headed(thing, word, size):
+    """Whether it is a tuple of so many things, the word ahead."""
+    return isinstance(thing, tuple) and len(thing) == size and thing[0] == word

@@ -1,7 +1,7 @@
 """Roots looked at: how a web differs from what another one comes to, and by which steps."""
 
 from rootwebs.errors import NoPlace, NoRoot, TooGreat
-from rootwebs.kinds import is_places, is_rising
+from rootwebs.kinds import is_places, is_rising_places
 from rootwebs.webs import MOST_PLACES, check_place, fars_from, star_of, two_step, web_good, web_of
 
 
@@ -90,7 +90,7 @@ def pieces_of(web):
 def within(web, places):
     """The web of these places alone, numbered from 0 in their order [2.4]."""
     many, ties = web
-    if not is_places(many, places) or not places or not is_rising(places):
+    if not is_rising_places(many, places):
         raise NoPlace()
     kept = [(a, b) for a, b in ties if a in places and b in places]
     return web_of(len(places), [(places.index(a), places.index(b)) for a, b in kept])

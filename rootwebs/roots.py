@@ -16,6 +16,12 @@ def check_ties(web):
         raise TooGreat(many, MOST_TIES)
 
 
+def check_roots(roots):
+    """Refuses a list of more roots than are told [3.1]."""
+    if len(roots) > MOST_ROOTS:
+        raise TooGreat(len(roots), MOST_ROOTS)
+
+
 def check_begun(web, thing):
     """Refuses what is no beginning for the web [3.4]."""
     if not is_begun(web, thing):
@@ -110,8 +116,7 @@ def all_roots(web):
     """The list of all roots, rising, or TooGreat [3.1]."""
     check_ties(web)
     roots = roots_of(web)
-    if len(roots) > MOST_ROOTS:
-        raise TooGreat(len(roots), MOST_ROOTS)
+    check_roots(roots)
     return roots
 
 

@@ -52,6 +52,11 @@ def check_place(web, thing):
         raise NoPlace()
 
 
+def is_tied(web, one, other):
+    """Whether two places are tied, whichever is the lesser one."""
+    return (min(one, other), max(one, other)) in web[1]
+
+
 def far_of(web, one, other):
     """How many ties apart two places are, None where there is no way [1.3]."""
     check_place(web, one)

@@ -10,7 +10,7 @@ from rootwebs.roots import (
 )
 from rootwebs.webs import is_still, renamed
 from tests.helper import (
-    NO_THINGS, full_web, many_webs, path_web, roots_table, same_kind, slow_roots, small_webs, webs_of,
+    NO_THINGS, full_web, path_web, roots_table, same_kind, slow_roots, small_webs, truths_of, webs_of, webs_to_try,
 )
 
 FULL3 = full_web(3)
@@ -19,16 +19,6 @@ FULL5_AND_ONE = (6, FULL5[1])
 TWELVE = (6, full_web(6)[1][:12])
 THIRTEEN = (6, full_web(6)[1][:13])
 OF_ONE_WEB = (roots_many, first_root, all_roots, ties_tally, fewest_root, must_have, may_have)
-
-
-def webs_to_try():
-    """All webs of one to five places, all of six with a root, and some without, of at most twelve ties."""
-    webs = many_webs() + sorted(roots_table(6))
-    return [web for web in webs if len(web[1]) <= 12]
-
-
-def truths_of(web, root):
-    return tuple(tie in root[1] for tie in web[1])
 
 
 class AllRoots(unittest.TestCase):

@@ -1,4 +1,4 @@
-"""All roots of a web of at most twelve ties.
+"""All roots of a web of at most twelve ties, and the search for roots by any number of steps.
 
 A choice of ties is held as a number: its bit at t tells whether tie t of the web is in.
 """
@@ -7,6 +7,7 @@ from rootwebs.errors import NoLine, TooGreat
 
 MOST_TIES = 12
 MOST_ROOTS = 300
+ROOT_STEPS = 2
 
 
 def check_ties(web):
@@ -35,26 +36,41 @@ def is_begun(web, thing):
     return all([isinstance(truth, bool) for truth in thing])
 
 
-def loose_ends(one, other):
-    """The places at which just one of two ties ends: two where they make a step, else four."""
-    return tuple(sorted(set(one) ^ set(other)))
+def steps_at(web):
+    """A list with, for each place, the places tied to it, each with the choice of that tie alone."""
+    many, ties = web
+    steps = [[] for place in range(many)]
+    for at, (a, b) in enumerate(ties):
+        steps[a].append((b, 1 << at))
+        steps[b].append((a, 1 << at))
+    return steps
 
 
-def clashes_and_makings(ties):
-    """Two lists, with for each tie: the choice of the ties ahead of it that must be out where it is
-    in, else two places would be two ties apart that the web does not tie; and the list of the least
-    choices by which its own two places are one or two ties apart.
+def ways_between(web, k):
+    """A table with, for any two places that are from one to k ties apart, the list of the choices
+    that are a way of at most k ties from the lesser one to the greater one.
     """
-    clashes = [0] * len(ties)
-    makings = [[1 << at] for at in range(len(ties))]
-    for at, tie in enumerate(ties):
-        for ahead in range(at):
-            ends = loose_ends(ties[ahead], tie)
-            if ends in ties:
-                makings[ties.index(ends)].append((1 << ahead) | (1 << at))
-            elif len(ends) == 2:
-                clashes[at] |= 1 << ahead
-    return clashes, makings
+    found = {}
+    steps = steps_at(web)
+    ways = [((place,), 0) for place in range(web[0])]
+    for step in range(k):
+        ways = [(way + (b,), choice | tie) for way, choice in ways for b, tie in steps[way[-1]] if b not in way]
+        for way, choice in ways:
+            if way[0] < way[-1]:
+                found.setdefault((way[0], way[-1]), []).append(choice)
+    return found
+
+
+def clashes_at(ties, ways):
+    """A list with, for each tie, those ways between two places not tied in the web of which it is
+    the last tie: what has all ties of such a way ties more than the web does.
+    """
+    clashes = [[] for tie in ties]
+    for pair in ways:
+        if pair not in ties:
+            for way in ways[pair]:
+                clashes[way.bit_length() - 1].append(way)
+    return clashes
 
 
 def settled_at(makings):
@@ -73,20 +89,27 @@ def is_made(choice, ways):
     return any([(choice & way) == way for way in ways])
 
 
-def root_choices(web, begun):
-    """The choices of ties that are roots of the web and begin so."""
+def choices_by(web, k, begun):
+    """The choices of ties that are webs whose steps web by k the web is, and that begin so."""
     ties = web[1]
-    clashes, makings = clashes_and_makings(ties)
-    settled = settled_at(makings)
+    ways = ways_between(web, k)
+    clashes = clashes_at(ties, ways)
+    settled = settled_at([ways[tie] for tie in ties])
     choices = [0]
     for at in range(len(ties)):
         grown = []
         if at >= len(begun) or not begun[at]:
             grown += choices
         if at >= len(begun) or begun[at]:
-            grown += [choice | (1 << at) for choice in choices if (choice & clashes[at]) == 0]
-        choices = [choice for choice in grown if all([is_made(choice, ways) for ways in settled[at]])]
+            longer = [choice | (1 << at) for choice in choices]
+            grown += [choice for choice in longer if not is_made(choice, clashes[at])]
+        choices = [choice for choice in grown if all([is_made(choice, making) for making in settled[at]])]
     return choices
+
+
+def root_choices(web, begun):
+    """The choices of ties that are roots of the web and begin so."""
+    return choices_by(web, ROOT_STEPS, begun)
 
 
 def chosen_ties(ties, choice):
@@ -94,10 +117,15 @@ def chosen_ties(ties, choice):
     return tuple([tie for at, tie in enumerate(ties) if (choice >> at) & 1])
 
 
+def roots_by(web, k):
+    """The list, rising, of all webs whose steps web by k the web is, however many."""
+    many, ties = web
+    return sorted([(many, chosen_ties(ties, choice)) for choice in choices_by(web, k, ())])
+
+
 def roots_of(web):
     """The list of all roots, rising, however many."""
-    many, ties = web
-    return sorted([(many, chosen_ties(ties, choice)) for choice in root_choices(web, ())])
+    return roots_by(web, ROOT_STEPS)
 
 
 def roots_many(web):

@@ -95,6 +95,23 @@ def slow_roots(web):
     return roots_table(web[0]).get(web, ())
 
 
+@lru_cache(maxsize=None)
+def by_table(many):
+    """For each k from 1 to 5 a table with, for each web that has roots by k, the sorted tuple of them."""
+    tables = {k: {} for k in range(1, 6)}
+    for web in webs_of(many):
+        fars = slow_fars(web)
+        for k, table in tables.items():
+            ties = tuple((a, b) for a, b in pairs_of(many) if fars[a][b] is not None and fars[a][b] <= k)
+            table.setdefault((many, ties), []).append(web)
+    return {k: {web: tuple(sorted(roots)) for web, roots in table.items()} for k, table in tables.items()}
+
+
+def slow_by(web, k):
+    """All roots by k, found by trying all webs."""
+    return by_table(web[0])[k].get(web, ())
+
+
 def truths_of(web, root):
     """For each tie of the web, whether the root has it."""
     return tuple(tie in root[1] for tie in web[1])
@@ -112,6 +129,16 @@ def slow_begun(web, begun):
 
 def tied(web, one, other):
     return tuple(sorted((one, other))) in web[1]
+
+
+def tuples_of(many):
+    """All rising tuples of places, the empty one among them."""
+    return [places for size in range(many + 1) for places in itertools.combinations(range(many), size)]
+
+
+def slow_knots(web):
+    return [places for places in tuples_of(web[0])
+            if places and all(tied(web, a, b) for a, b in itertools.combinations(places, 2))]
 
 
 def slow_tree(web):
@@ -195,6 +222,13 @@ def fields_of_too_great(test, call, *things):
     with test.assertRaises(TooGreat, msg=repr((call, things))) as caught:
         call(*things)
     return (caught.exception.many, caught.exception.most)
+
+
+def refused(test, kind, call, *things):
+    """Sees to it that the call is refused with just this class."""
+    with test.assertRaises(kind, msg=repr((call, things))) as caught:
+        call(*things)
+    test.assertIs(type(caught.exception), kind)
 
 
 def same_kind(one, other):

@@ -1,20 +1,68 @@
-"""Point 0.2: what is handed in or told is not changed, and lists that are told are the asker's own."""
+"""Points 0.2 and 0.4: what is handed in or told is not changed, and lists that are told are the asker's own."""
 
 import copy
+import inspect
 import unittest
 
-from rootwebs import looks, papers, rings, roots, stars, trees, webs
-from rootwebs.errors import RootError
-from tests.helper import NO_THINGS, full_web, path_web, ring_web, same_kind, trees_of, webs_of
+from rootwebs import desk, looks, mates, papers, rings, roots, stars, steps, texts, trees, webs
+from rootwebs.errors import NoNumber, RootError, TooGreat
+from tests.helper import NO_THINGS, full_web, path_web, ring_web, same_kind, small_webs, trees_of, webs_of
 
 FULL4 = full_web(4)
 HALF = (4, ((0, 1), (0, 2), (1, 2), (2, 3)))
 PAPER = ("cases", ("lost", 0), ("cases", ("lost", 1), ("more", 0, 1, 2)))
+ROWS = ("fresh 4", "tie 0 1", "tie 2 1", "step 2", "roots", "first", "root", "back", "fewest", "trees", "cut 0 2", "ties",
+        "far 0 3", "far 0 2", "star 1", "still", "pieces", "knots", "kinds", "shown", "back")
+# The interface, each function with how many things are handed in.
+INTERFACE = {
+    webs: {"web_good": 1, "web_of": 2, "far_of": 3, "star_of": 2, "steps_web": 2, "two_step": 1, "still_from": 1,
+           "is_still": 1, "renamed": 2},
+    looks: {"root_good": 2, "differences": 2, "first_wrong": 2, "steps_from": 3, "show_good": 3, "first_show": 2,
+            "pieces_of": 1, "within": 2, "beside": 2},
+    roots: {"roots_many": 1, "first_root": 1, "all_roots": 1, "ties_tally": 1, "fewest_root": 1, "must_have": 1,
+            "may_have": 1, "roots_begun": 2, "next_truths": 2},
+    papers: {"paper_good": 3, "paper_for": 2, "leaves_of": 3, "forced": 2},
+    trees: {"tree_good": 1, "word_of": 1, "tree_by": 2, "tree_roots": 1, "first_tree": 1, "bar_good": 2, "bar_of": 1,
+            "alike_trees": 2},
+    stars: {"knot_good": 2, "great_knots": 1, "knots_many": 1, "stars_good": 1, "stars_of": 1, "web_by": 1,
+            "holds_good": 2, "joined_by": 1, "first_stars": 1, "held_many": 1},
+    rings: {"ring_good": 2, "least_ring": 1, "first_ring": 1, "free_roots": 2, "free_many": 2, "first_free": 2,
+            "spare_ties": 1, "thinned": 1},
+    steps: {"root_by_good": 3, "roots_by_many": 2, "first_by": 2, "all_by": 2, "steps_of": 1, "steps_list": 1,
+            "chain_good": 2, "first_chain": 2},
+    mates: {"are_mates": 2, "mates_of": 1, "mates_many": 1, "all_webs": 1, "rooted_many": 1, "rooted_table": 1,
+            "kinds_table": 1, "fewest_mate": 1, "mate_span": 1},
+    texts: {"web_shown": 1, "web_read": 1},
+}
+
+
+def told_rows(rows):
+    """What a new desk answers to the rows, one by one."""
+    told = desk.Desk()
+    return tuple([told.say(row) for row in rows])
 
 
 def questions():
     """Calls, as tuples of a function and its arguments, of every function of all modules."""
-    return questions_of_webs() + questions_of_papers_and_trees() + questions_of_stars_and_rings()
+    return (questions_of_webs() + questions_of_papers_and_trees() + questions_of_stars_and_rings()
+            + questions_of_steps_and_mates())
+
+
+def questions_of_steps_and_mates():
+    asked = [(steps.root_by_good, FULL4, 2, HALF), (steps.root_by_good, FULL4, 3, [4, []]),
+             (steps.chain_good, FULL4, (FULL4, HALF)), (steps.chain_good, FULL4, [FULL4, [HALF]]),
+             (texts.web_read, "web 4 2\ntie 0 1\ntie 2 3"), (told_rows, ROWS), (told_rows, ROWS[:5] + ("root",))]
+    asked += [(call, many) for call in (mates.all_webs, mates.rooted_many, mates.rooted_table, mates.kinds_table)
+              for many in (1, 2, 3, 4)]
+    for web in (HALF, FULL4, path_web(4), (4, ()), (1, ()), (5, ring_web(5)[1][:4])):
+        asked += [(call, web) for call in (
+            steps.steps_of, steps.steps_list, texts.web_shown, mates.mates_of, mates.mates_many, mates.fewest_mate,
+            mates.mate_span,
+        )]
+        asked += [(mates.are_mates, web, other) for other in (HALF, FULL4, path_web(5))]
+        asked += [(call, web, k) for call in (steps.roots_by_many, steps.first_by, steps.all_by) for k in (1, 2, 3, 5)]
+        asked += [(steps.first_chain, web, many) for many in (1, 2, 3)]
+    return asked
 
 
 def questions_of_papers_and_trees():
@@ -80,6 +128,11 @@ def wrong_questions():
                   (stars.web_by, thing), (stars.joined_by, thing), (stars.holds_good, HALF, thing),
                   (rings.ring_good, HALF, thing), (rings.free_roots, HALF, thing), (rings.free_many, HALF, thing),
                   (rings.first_free, HALF, thing)]
+        asked += [(steps.root_by_good, HALF, thing, HALF), (steps.root_by_good, HALF, 2, thing),
+                  (steps.roots_by_many, HALF, thing), (steps.first_by, HALF, thing), (steps.all_by, HALF, thing),
+                  (steps.chain_good, HALF, thing), (steps.first_chain, HALF, thing), (mates.all_webs, thing),
+                  (mates.rooted_many, thing), (mates.rooted_table, thing), (mates.kinds_table, thing),
+                  (texts.web_read, thing), (told_rows, [thing]), (told_rows, ["fresh 3", "tie 0 1", thing])]
         if thing != (True, False):
             asked += [(roots.roots_begun, HALF, thing), (roots.next_truths, HALF, thing),
                       (papers.paper_for, HALF, thing), (papers.forced, HALF, thing),
@@ -89,6 +142,26 @@ def wrong_questions():
 
 def answer(question):
     return question[0](*question[1:])
+
+
+def spoil(told):
+    """Changes each list that was told, those within it too, and tells how many there were."""
+    if not isinstance(told, (list, tuple)):
+        return 0
+    lists = sum(spoil(thing) for thing in told)
+    if isinstance(told, list):
+        lists += 1
+        told.append("spoilt")
+        told.reverse()
+    return lists
+
+
+def refusal(question):
+    """The class and the fields of a refusal."""
+    try:
+        return answer(question)
+    except RootError as error:
+        return (type(error), vars(error))
 
 
 class Asker(unittest.TestCase):
@@ -110,16 +183,16 @@ class Asker(unittest.TestCase):
 
     def test_every_function_of_the_interface_is_asked(self):
         asked = {question[0] for question in questions()}
-        listed = {
-            papers: "paper_good paper_for leaves_of forced",
-            trees: "tree_good word_of tree_by tree_roots first_tree bar_good bar_of alike_trees",
-            stars: "knot_good great_knots knots_many stars_good stars_of web_by holds_good joined_by first_stars "
-                   "held_many",
-            rings: "ring_good least_ring first_ring free_roots free_many first_free spare_ties thinned",
-        }
-        for module, names in listed.items():
-            for name in names.split():
+        for module, names in INTERFACE.items():
+            for name in names:
                 self.assertIn(getattr(module, name), asked)
+
+    def test_the_interface_is_as_it_is_written(self):
+        for module, names in INTERFACE.items():
+            for name, many in names.items():
+                self.assertEqual(len(inspect.signature(getattr(module, name)).parameters), many, name)
+        self.assertEqual(len(inspect.signature(desk.Desk).parameters), 0)
+        self.assertEqual(len(inspect.signature(desk.Desk().say).parameters), 1)
 
     def test_the_same_question_has_the_same_answer(self):
         first = [answer(question) for question in questions()]
@@ -135,13 +208,28 @@ class Asker(unittest.TestCase):
         lists = 0
         for question in questions():
             told = answer(question)
-            if isinstance(told, list):
-                lists += 1
-                before = copy.deepcopy(told)
-                told.append("spoilt")
-                told.reverse()
-                self.assertTrue(same_kind(answer(question), before))
-        self.assertGreater(lists, 50)
+            before = copy.deepcopy(told)
+            lists += spoil(told)
+            self.assertTrue(same_kind(answer(question), before))
+        self.assertGreater(lists, 100)
+
+    def test_spoiling_one_answer_changes_no_other(self):
+        first = [answer(question) for question in questions()]
+        before = copy.deepcopy(first)
+        for question in questions():
+            spoil(answer(question))
+        self.assertTrue(same_kind(first, before))
+        self.assertTrue(same_kind([answer(question) for question in questions()], before))
+
+    def test_a_desk_is_not_changed_by_what_else_is_asked(self):
+        kept = desk.Desk()
+        for row in ROWS:
+            kept.say(row)
+        before = kept.say("shown")
+        for question in questions():
+            answer(question)
+        self.test_nothing_that_is_refused_is_changed()
+        self.assertEqual(kept.say("shown"), before)
 
     def test_a_list_handed_in_may_change_behind_the_call(self):
         things = [(0, 1)]
@@ -188,6 +276,54 @@ class Asker(unittest.TestCase):
             self.assertEqual(webs.two_step(rings.thinned(web)), webs.two_step(web))
             for root in rings.free_roots(web, 3):
                 self.assertIs(looks.root_good(web, root), True)
+
+    def test_what_steps_and_mates_told_may_be_handed_in_again(self):
+        for web in small_webs():
+            for k in (1, 2, 3, 5):
+                for root in steps.all_by(web, k):
+                    self.assertIs(steps.root_by_good(web, k, root), True)
+                    self.assertEqual(texts.web_read(texts.web_shown(root)), root)
+            for many in (1, 2, 3):
+                chain = steps.first_chain(web, many)
+                self.assertTrue(chain is None or steps.chain_good(web, chain))
+            for stepped in steps.steps_list(web):
+                self.assertIs(webs.web_good(stepped), True)
+            for mate in mates.mates_of(web)[:4]:
+                self.assertIs(mates.are_mates(web, mate), True)
+        for many in range(1, 5):
+            for web, mated in mates.kinds_table(many):
+                self.assertEqual(roots.roots_many(web), mated)
+                self.assertIn(web, mates.all_webs(many))
+
+
+class Refusals(unittest.TestCase):
+    """0.4"""
+
+    def test_each_stands_straight_under_root_error(self):
+        for question in wrong_questions():
+            told = refusal(question)
+            if told is not False:
+                self.assertEqual(told[0].__bases__, (RootError,))
+
+    def test_a_refusal_is_the_same_each_time(self):
+        first = [refusal(question) for question in wrong_questions()]
+        for question in questions():
+            answer(question)
+        self.assertEqual([refusal(question) for question in reversed(wrong_questions())], first[::-1])
+
+    def test_which_goes_where_several_are_due(self):
+        thirteen = (6, full_web(6)[1][:13])
+        many = (TooGreat, {"many": 13, "most": 12})
+        for thing in NO_THINGS:
+            for call in (steps.roots_by_many, steps.first_by, steps.all_by, steps.first_chain, rings.free_roots,
+                         rings.free_many, rings.first_free, roots.roots_begun, roots.next_truths, papers.paper_for,
+                         papers.forced):
+                self.assertEqual(refusal((call, thirteen, thing)), many)
+            for call in (papers.paper_good, papers.leaves_of):
+                self.assertEqual(refusal((call, thirteen, thing, thing)), many)
+            for call in (steps.all_by, rings.free_roots):
+                self.assertEqual(refusal((call, full_web(5), thing)), (NoNumber, {}))
+            self.assertEqual(refusal((steps.root_by_good, thirteen, thing, thing)), (NoNumber, {}))
 
 
 if __name__ == "__main__":

@@ -164,6 +164,37 @@ class Code(unittest.TestCase):
                     self.assertIsInstance(part.value, ast.Constant)
             self.assertEqual(len(bound), len(set(bound)), path)
 
+    def test_lists_and_dicts_at_module_level_are_flat(self):
+        for path in files():
+            for part in ast.parse(text_of(path)).body:
+                if isinstance(part, ast.Assign):
+                    held = [node for node in ast.walk(part.value) if isinstance(node, (ast.List, ast.Dict))]
+                    self.assertLessEqual(len(held), 1, path)
+
+    def test_methods_and_attributes(self):
+        methods = {part.name for _, node in nodes() if isinstance(node, ast.ClassDef)
+                   for part in node.body if isinstance(part, ast.FunctionDef)} - DUNDERS
+        attributes = {node.attr for _, node in nodes()
+                      if isinstance(node, ast.Attribute) and isinstance(node.ctx, ast.Store)}
+        self.assertTrue(methods and attributes)
+        self.assertEqual(methods & attributes, set())
+        for kind in (str, int, list, dict, set, bytes, tuple):
+            self.assertEqual((methods | attributes) & set(dir(kind)), set(), kind)
+        for where, node in nodes():
+            if isinstance(node, ast.Attribute) and isinstance(node.ctx, ast.Load):
+                self.assertIn(node.attr, methods | attributes | METHODS, where)
+
+    def test_nothing_at_module_level_is_changed(self):
+        for path in files():
+            tree = ast.parse(text_of(path))
+            tables = {name for part in tree.body if isinstance(part, ast.Assign)
+                      for one in ast.walk(part) for name in bound_names(one)}
+            for node in ast.walk(tree):
+                if isinstance(node, (ast.Subscript, ast.Attribute)) and isinstance(node.value, ast.Name):
+                    if node.value.id in tables:
+                        self.assertIsInstance(node.ctx, ast.Load, path)
+                        self.assertNotIsInstance(node, ast.Attribute, path)
+
     def test_is_stands_with_none_and_truths_alone(self):
         for where, node in nodes():
             if isinstance(node, ast.Compare) and any(isinstance(op, (ast.Is, ast.IsNot)) for op in node.ops):

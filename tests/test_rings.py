@@ -4,10 +4,13 @@ import itertools
 import unittest
 
 from rootwebs.errors import NoNumber
+from rootwebs.looks import pieces_of
+from rootwebs.mates import fewest_mate
 from rootwebs.rings import (
     first_free, first_ring, free_many, free_roots, least_ring, ring_good, spare_ties, thinned,
 )
 from rootwebs.roots import all_roots, fewest_root, first_root, roots_many
+from rootwebs.trees import tree_roots
 from rootwebs.webs import two_step
 from tests.helper import (
     NO_THINGS, fields_of_too_great, full_web, is_one_of, many_webs, nested, path_web, ring_web, roots_table, same_kind,
@@ -268,6 +271,23 @@ class So(unittest.TestCase):
             self.assertEqual(first_free(web, 2), first_root(web))
             if roots_many(web) <= 300:
                 self.assertEqual(free_roots(web, 2), all_roots(web))
+
+    def test_by_a_greater_k_some_of_those_by_a_lesser_one(self):
+        for web in webs_to_try()[::7]:
+            if roots_many(web) <= 300:
+                for k in range(2, 6):
+                    lesser = free_roots(web, k)
+                    self.assertEqual([root for root in lesser if root in free_roots(web, k + 1)], free_roots(web, k + 1))
+
+    def test_by_six_those_of_a_web_in_one_piece_are_its_tree_roots(self):
+        for web in webs_to_try()[::2]:
+            if len(pieces_of(web)) == 1:
+                self.assertEqual(free_roots(web, 6), tree_roots(web))
+
+    def test_a_mate_with_fewest_ties_has_no_spare_tie(self):
+        for web in many_webs():
+            if len(two_step(web)[1]) <= 12:
+                self.assertEqual(spare_ties(fewest_mate(web)), ())
 
     def test_a_root_with_fewest_ties_has_no_spare_tie(self):
         for web in webs_to_try():

@@ -12,7 +12,7 @@ from rootwebs.stars import (
 from rootwebs.webs import two_step
 from tests.helper import (
     NO_THINGS, fields_of_too_great, full_web, is_one_of, many_webs, nested, path_web, roots_table, same_kind,
-    slow_roots, slow_two_step, small_webs, spoilt, tied, webs_of, webs_to_try,
+    slow_knots, slow_roots, slow_two_step, small_webs, spoilt, tied, tuples_of, webs_of, webs_to_try,
 )
 
 PATH3 = path_web(3)
@@ -26,16 +26,6 @@ NO_STARS = NO_THINGS + [
     (((0,),),), nested((0,), 3), tuple((place,) for place in range(7)), STARS3 + (None,), STARS3[:2], STARS3[1:],
     ((0, 1, 2), (0, 1), (2,)), ((0, 1, 2), (1,), (2,)), ((0, 1), (0, 1, 2), (2,)), "0", ("0",), ((0,), None), (None,),
 ]
-
-
-def tuples_of(many):
-    """All rising tuples of places, the empty one among them."""
-    return [places for size in range(many + 1) for places in itertools.combinations(range(many), size)]
-
-
-def slow_knots(web):
-    return [places for places in tuples_of(web[0])
-            if places and all(tied(web, a, b) for a, b in itertools.combinations(places, 2))]
 
 
 def slow_stars(web):
